@@ -4,6 +4,7 @@ import (
 	"cmp"
 	"math"
 	"math/rand/v2"
+	"slices"
 	"testing"
 
 	"tipstaff/branch"
@@ -510,6 +511,28 @@ func TestRefineOfNoPair(t *testing.T) {
 	} {
 		if x, y, some := branch.Refine(c.op, c.long, c.a, c.b, c.holds); some || x != (scalar.Range{}) || y != (scalar.Range{}) {
 			t.Errorf("%d: Refine(%d, %v, %v): %+v, %+v, %v", i, c.op, c.long, c.holds, x, y, some)
+		}
+	}
+}
+
+// P15.2: what is handed in stays, and a call answers the same again.
+func TestUnchanged(t *testing.T) {
+	chance := rand.New(rand.NewPCG(15, 4))
+	for range 2000 {
+		x := edges[chance.IntN(len(edges))]
+		all := []scalar.Range{few(chance, x, 4), few(chance, x, 4)}
+		was := slices.Clone(all)
+		type answers struct {
+			a, b scalar.Range
+			some bool
+		}
+		var got [2]answers
+		op, long, hold := comparisons[chance.IntN(len(comparisons))], chance.IntN(2) == 0, chance.IntN(2) == 0
+		for i := range got {
+			got[i].a, got[i].b, got[i].some = branch.Refine(op, long, all[0], all[1], hold)
+		}
+		if !slices.Equal(all, was) || got[0] != got[1] {
+			t.Fatalf("%+v were %+v; %+v", all, was, got)
 		}
 	}
 }

@@ -4,6 +4,7 @@ import (
 	"math"
 	"math/big"
 	"math/rand/v2"
+	"slices"
 	"testing"
 
 	"tipstaff/scalar"
@@ -742,6 +743,30 @@ func TestSettleByHand(t *testing.T) {
 	} {
 		if got, some := scalar.Settle(a); some || got != (scalar.Range{}) {
 			t.Errorf("Settle(%+v): %+v, %v", a, got, some)
+		}
+	}
+}
+
+// P14.2: what is handed in stays, and a call answers the same again.
+func TestUnchanged(t *testing.T) {
+	chance := rand.New(rand.NewPCG(14, 8))
+	for range 2000 {
+		all := []scalar.Range{few(chance, 4), few(chance, 4)}
+		was := slices.Clone(all)
+		type answers struct {
+			join, low, do, settled scalar.Range
+			some                   bool
+		}
+		var got [2]answers
+		op, long := chance.IntN(13), chance.IntN(2) == 0
+		for i := range got {
+			got[i].join = scalar.Join(all[0], all[1])
+			got[i].low = scalar.Low(all[0], 4)
+			got[i].do = scalar.Do(op, long, all[0], all[1])
+			got[i].settled, got[i].some = scalar.Settle(all[0])
+		}
+		if !slices.Equal(all, was) || got[0] != got[1] {
+			t.Fatalf("%+v were %+v; %+v", all, was, got)
 		}
 	}
 }
